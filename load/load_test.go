@@ -146,23 +146,7 @@ func TestFull(t *testing.T) { // P21.1
 
 func TestBad(t *testing.T) { // P21.1, P21.2
 	k := newKit(t, 20, 5, 6)
-	first, e := k.d.Read(2) // where the root stands: it is broken, and with it those that stand there in part
-	if e != api.OK || len(first) != 32 {
-		t.Fatal(e)
-	}
-	entry := 0
-	for i := 2; i < 40; i++ {
-		before := readable(k)
-		k.d.Corrupt(i, 17)
-		if after := readable(k); len(after) == len(before)-1 && slices.Contains(before, 8) && !slices.Contains(after, 8) {
-			entry = i
-			break
-		}
-		k.d.Corrupt(i, 17)
-	}
-	if entry == 0 {
-		t.Fatal("no sector of page 8 was found")
-	}
+	k.breaks(t, 8)
 	k.wants(5, 1, 8, 2, 6, 3)
 	k.run(t, 4, api.OK, []int{1, 2}, []int{5, 8}, nil)
 	k.there(t, 0, 1, 2)
@@ -170,15 +154,17 @@ func TestBad(t *testing.T) { // P21.1, P21.2
 	k.there(t, 0, 1, 2, 3)
 }
 
-// readable is the Keys that the store can read.
-func readable(k kit) []int {
-	var l []int
-	for p := range page.All(2) {
-		if _, e := k.s.Read(p); e == api.OK {
-			l = append(l, page.Key(2, p))
+// breaks turns a bit of a page's sector: the one at which it can't be read any more.
+func (k kit) breaks(t *testing.T, key int) {
+	t.Helper()
+	for i := 2; i < k.s.Used(); i++ {
+		k.d.Corrupt(i, 17)
+		if _, e := k.s.Read(pages(key)[0]); e == api.ErrBad {
+			return
 		}
+		k.d.Corrupt(i, 17)
 	}
-	return l
+	t.Fatalf("no sector of page %d was found", key)
 }
 
 func TestDown(t *testing.T) { // P21.1
