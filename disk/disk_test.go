@@ -113,6 +113,32 @@ func TestHeldBackIsLost(t *testing.T) { // P8.1, P8.2, P8.3
 	reads(t, d, 2, full(4))
 }
 
+func TestFlushedIsHeldBackNoMore(t *testing.T) { // P8.1, P8.2, P8.3
+	d := make1(t, 5)
+	ok(t, d.Write(1, full(1)))
+	ok(t, d.Write(3, full(3)))
+	ok(t, d.Flush())
+	ok(t, d.Write(4, full(4)))
+	ok(t, d.Flush())
+	ok(t, d.Flush())
+	for i, n := range []byte{0, 1, 0, 3, 4} {
+		reads(t, d, i, full(n))
+	}
+	ok(t, d.Write(2, full(2)))
+	ok(t, d.Write(4, full(5)))
+	off(t, d, 2) // the second one that is held back
+	if got := d.Up(); !slices.Equal(got, []int{4}) {
+		t.Errorf("Up: %v", got)
+	}
+	for i, n := range []byte{0, 1, 0, 3, 5} {
+		reads(t, d, i, full(n))
+	}
+	off(t, d, -1)
+	if got := d.Up(); len(got) != 0 {
+		t.Errorf("what was flushed is held back: %v", got)
+	}
+}
+
 func TestExample(t *testing.T) { // P8.2
 	d := make1(t, 1)
 	ok(t, d.Fuse(0, 0))

@@ -70,6 +70,18 @@ func TestAllPlaces(t *testing.T) { // P6.1
 	}
 }
 
+func TestFarInALongRow(t *testing.T) { // P6.1
+	for _, kinds := range []int{2, 8, 40} {
+		b := row(12000, kinds, 5)
+		f := match.New(b)
+		for at := 3000; at < len(b); at += 601 {
+			check(t, b, f, at)
+		}
+		check(t, b, f, len(b)-3)
+		check(t, b, f, len(b)-2)
+	}
+}
+
 func TestExample(t *testing.T) { // P6.1
 	f := match.New([]byte("aaaa"))
 	if d, n := f.At(1); d != 1 || n != 3 {
@@ -170,7 +182,7 @@ func TestCopyIsWhatStandsThere(t *testing.T) { // P6.2
 func TestNotKept(t *testing.T) { // P6.2
 	b := []byte("abcabcabc")
 	f := match.New(b)
-	clear(b)
+	copy(b, "123456789")
 	if d, n := f.At(3); d != 3 || n != 6 {
 		t.Errorf("behind a change: %d, %d", d, n)
 	}

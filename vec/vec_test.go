@@ -94,6 +94,11 @@ func TestMulRoundsOnce(t *testing.T) { // P2.1
 	if got, _ := vec.Mul(m, n); got[0] != 1 {
 		t.Errorf("two quarters of a half: %d", got[0])
 	}
+	for c, want := range map[int]int{32767: 0, 32768: 1, -32769: -1, 98303: 1, 98304: 2} {
+		if got, _ := vec.Mul(m, api.Mat{0: c}); got[0] != want {
+			t.Errorf("%d over 65536: %d", c, got[0])
+		}
+	}
 	n = api.Mat{0: -32768}
 	if got, _ := vec.Mul(m, n); got[0] != 0 {
 		t.Errorf("minus a half: %d", got[0])
