@@ -167,6 +167,13 @@ func TestChangedOfOthers(t *testing.T) { // P15.2
 			}
 		}
 	}
+	plain := func(d int) *mips.Pyramid {
+		m, _ := mips.Build(api.Texture{D: d, Texels: make([]api.Colour, 16<<(2*d))})
+		return m
+	}
+	if got := cut.Changed(plain(2), plain(1)); len(got) != 5 {
+		t.Errorf("of one colour, another depth: %d", len(got))
+	}
 	if got := cut.Changed(one, two); len(got) != 21 {
 		t.Errorf("of a lesser one: %d", len(got))
 	}

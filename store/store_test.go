@@ -268,6 +268,20 @@ func TestOpenRight(t *testing.T) { // P13.1
 	}
 }
 
+func TestOpenOfSmallOnes(t *testing.T) { // P13.1, P13.2
+	for n := 1; n < 4; n++ {
+		d := newDisk(t, n)
+		put(t, d, 0, head(7, 0, true, 0, 0, 0))
+		s := open(t, d)
+		if s.Gen() != 7 || !s.Wrap() || s.Used() != min(n, 2) {
+			t.Errorf("of %d sectors: %d, %d", n, s.Gen(), s.Used())
+		}
+		if e := s.Commit([]api.Item{{Data: data(-1)}}); e != api.ErrFull {
+			t.Errorf("Commit on %d sectors: %d", n, e)
+		}
+	}
+}
+
 func TestOpenTakesTheNewer(t *testing.T) { // P13.1
 	for _, c := range []struct{ first, second, want int }{{3, 4, 4}, {4, 3, 4}, {3, 3, 3}, {0, 3, 3}, {3, 0, 3}, {1<<32 - 1, 5, 1<<32 - 1}} {
 		d := newDisk(t, 4)
@@ -429,6 +443,13 @@ func TestCommitRefuses(t *testing.T) { // P13.2
 		if e := s.Commit(l); e != api.ErrArg {
 			t.Errorf("%s: %d", what, e)
 		}
+	}
+	var many []api.Item
+	for range 30 {
+		many = append(many, good)
+	}
+	if e := s.Commit(many); e != api.ErrArg {
+		t.Errorf("a page so often that there is no room: %d", e)
 	}
 	if !bytes.Equal(image(t, d), before) || d.Writes() != writes || s.Gen() != 2 {
 		t.Error("a Commit that was refused has written something")
