@@ -255,12 +255,14 @@ func TestFetchOfNone(t *testing.T) { // P23.2
 
 func TestUnlikeDepths(t *testing.T) { // P23.2
 	m := pyramid(t, 2, true)
-	s := source(t, m, true, slices.Collect(page.All(2))...)
-	for depth := range 4 {
-		s.Depth = depth
-		for _, u := range spots(depth) {
-			for l := range depth + 1 {
-				sample.Fetch(s, u, -u, level.Choice{L: l, T: 9})
+	for _, there := range [][]api.Page{nil, slices.Collect(page.All(2))} {
+		s := source(t, m, true, there...)
+		for depth := range 4 {
+			s.Depth = depth
+			for _, u := range spots(depth) {
+				for l := range depth + 1 {
+					sample.Fetch(s, u, -u, level.Choice{L: l, T: 9})
+				}
 			}
 		}
 	}
