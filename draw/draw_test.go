@@ -325,11 +325,13 @@ func TestRenderRefuses(t *testing.T) { // P29.1
 
 func TestUnlikeDepths(t *testing.T) { // P29.1
 	x := numbers(31)
-	s := x.source(t, 2, true, true, 10)
-	for _, d := range []int{0, 1, 3, -1, 4, math.MaxInt} {
-		s.Depth = d
-		if f := render(t, s, 16, 16, api.Colour{}, vec.One(), square(8, api.Tex, api.Colour{})); f.Full+f.Less != 256 {
-			t.Errorf("depth %d: %d full, %d less", d, f.Full, f.Less)
+	for _, chance := range []int{0, 10} {
+		s := x.source(t, 2, true, true, chance)
+		for _, d := range []int{0, 1, 3, -1, 4, math.MaxInt} {
+			s.Depth = d
+			if f := render(t, s, 16, 16, api.Colour{}, vec.One(), square(8, api.Tex, api.Colour{})); f.Full+f.Less != 256 {
+				t.Errorf("depth %d: %d full, %d less", d, f.Full, f.Less)
+			}
 		}
 	}
 }

@@ -102,6 +102,23 @@ func TestTurned(t *testing.T) { // P26.1
 	}
 }
 
+func TestTheLeastArea(t *testing.T) { // P26.1, P26.2
+	tri := [3]api.Spot{spot(128, 128), spot(129, 128), spot(128, 129)}
+	if got, ok := edge.Turned(tri); got != tri || !ok || edge.Area(tri) != 1 {
+		t.Errorf("Turned: %v, %v", got, ok)
+	}
+	if got, ok := edge.Covers(tri, 0, 0); !ok || got != (edge.Hit{E: [3]int{1, 0, 0}}) {
+		t.Errorf("Covers: %v, %v", got, ok)
+	}
+	other := [3]api.Spot{tri[0], tri[2], tri[1]}
+	if got, ok := edge.Turned(other); got != tri || !ok {
+		t.Errorf("Turned the other way round: %v, %v", got, ok)
+	}
+	if got, ok := edge.Covers(other, 0, 0); ok || got != (edge.Hit{}) {
+		t.Errorf("Covers of one that is not turned: %v, %v", got, ok)
+	}
+}
+
 func TestCovers(t *testing.T) { // P26.2
 	x := numbers(21)
 	on := 0

@@ -235,6 +235,24 @@ func TestWantedOnesStayLongest(t *testing.T) { // P30.2
 	}
 }
 
+// TestWantedOnesStayLongestWhateverTheirKeys has a page that is used in the place of others behind one that is wanted itself, by Key.
+func TestWantedOnesStayLongestWhateverTheirKeys(t *testing.T) { // P30.2
+	s, _, _ := made(t, 2, false)
+	v := newView(t, config(3, 128, 1), s)
+	coarse := part(0, 0, 4, 2) // half of {1, 0, 0}'s texels to a pixel
+	other := part(8, 0, 4, 1)  // texels of {0, 2, 0}, which is in {1, 1, 0}
+	shifted := part(4, 0, 4, 2)
+	v.Frame(vec.One(), shifted) // {1, 1, 0} is read
+	v.Frame(vec.One(), coarse)  // {1, 0, 0} is read
+	if want := []api.Page{{L: 2}, {L: 1}, {L: 1, X: 1}}; !slices.Equal(v.There(), want) {
+		t.Fatalf("There: %v", v.There())
+	}
+	out, e := v.Frame(vec.One(), append(coarse, other...))
+	if e != api.OK || !slices.Equal(out.Loads, []api.Page{{X: 2}}) || !slices.Equal(out.Gone, []api.Page{{L: 1, X: 1}}) {
+		t.Errorf("Gone: %v, Loads: %v, %d full, %d less", out.Gone, out.Loads, out.Full, out.Less)
+	}
+}
+
 func TestBudgetAndQueue(t *testing.T) { // P30.2
 	s, _, _ := made(t, 2, false)
 	for _, c := range [][3]int{{128, 128, 0}, {128, 3, 128}, {128, 128, 5}, {1, 128, 4}} {

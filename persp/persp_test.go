@@ -147,6 +147,36 @@ func TestWeights(t *testing.T) { // P27.1, P27.3
 	}
 }
 
+// TestWeightsMidway has sums of which each bit counts that is shifted away.
+func TestWeightsMidway(t *testing.T) { // P27.1
+	x := numbers(71)
+	kinds := map[int]int{}
+	for range 2000 {
+		tri := x.triangle(1<<13, 10)
+		for i := range tri {
+			tri[i].X, tri[i].Y = 2*tri[i].X, 2*tri[i].Y
+		}
+		tri[1].W = tri[0].W
+		px, py := (tri[0].X+tri[1].X)/2, (tri[0].Y+tri[1].Y)/2
+		want, wantOK := weights(tri, px, py)
+		got, ok := persp.Weights(tri, px, py)
+		if got != want || ok != wantOK || !ok {
+			t.Fatalf("Weights(%v, %d, %d): %v, %v; want %v, %v", tri, px, py, got, ok, want, wantOK)
+		}
+		kinds[got[0]]++
+	}
+	if kinds[32767] == 0 || kinds[32768] == 0 {
+		t.Errorf("the test saw %v", kinds)
+	}
+}
+
+func TestWeightsOfTheLeastSum(t *testing.T) { // P27.1
+	tri := [3]api.Spot{{X: 2, Y: 1, W: 496629624}, {X: 4, Y: 1, W: 367444486}, {X: 3, Y: 2, W: 338293355}}
+	if got, ok := persp.Weights(tri, 18, -12); !ok || got != [3]int{-16 * one, 16 * one, one} { // a sum of 1
+		t.Errorf("%v, %v", got, ok)
+	}
+}
+
 func TestAt(t *testing.T) { // P27.2
 	x := numbers(18)
 	for _, bits := range []int{8, 9, 12, 17, 24, 29} {
