@@ -300,6 +300,13 @@ func TestNearestIsSeen(t *testing.T) { // P33.2
 			t.Errorf("%v", got.Image)
 		}
 	}
+	again := square(4, api.Flat)
+	for i := range again {
+		again[i].Tint = api.Colour{3, 3, 3, 3}
+	}
+	if got, _ := ideal.Img(tex, false, 4, 4, api.Colour{}, vec.One(), append(slices.Clone(ahead), again...), nil); got.Image[5] != (api.Colour{1, 1, 1, 1}) {
+		t.Errorf("where Z is one: %v", got.Image)
+	}
 }
 
 func TestTrilinear(t *testing.T) { // P33.2
